@@ -19,10 +19,11 @@ type function struct {
 // field is a number of a module: where it stands, of how many bytes it is, and what it may be.
 type field struct{ place, width, least, most int }
 
-// built is a module's bytes, and the numbers among them.
+// built is a module's bytes, the numbers among them, and the places of the functions' code.
 type built struct {
 	bytes  []byte
 	fields []field
+	starts []int
 }
 
 func (b *built) number(n, least, most int) {
@@ -58,6 +59,7 @@ func build(signatures []signature, functions []function) built {
 		b.number(f.signature, 0, len(signatures)-1)
 		b.types(f.locals, 8)
 		b.number2(len(f.code), 1, 400)
+		b.starts = append(b.starts, len(b.bytes))
 		b.bytes = append(b.bytes, f.code...)
 	}
 	return b

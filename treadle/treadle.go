@@ -3,6 +3,7 @@ package treadle
 
 import (
 	"treadle/api"
+	"treadle/look"
 	"treadle/shape"
 )
 
@@ -22,7 +23,9 @@ func load(module []byte) (loaded *Module, errno api.Errno, place int) {
 			errno, place = refusal(reason)
 		}
 	}()
-	return &Module{shape.Read(module)}, api.OK, 0
+	form := shape.Read(module)
+	look.Through(form)
+	return &Module{form}, api.OK, 0
 }
 
 // refusal tells why a reader gave up. What is no Fault is refused too: whatever happened, no call may panic, and no module be taken for a good one.
