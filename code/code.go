@@ -119,10 +119,11 @@ var kinds = map[byte]Kind{
 	71: {Widen, Bare, 1, shape.Small, shape.Wide},
 }
 
-// Step is one instruction of a function: its kind, the signature, function, local or labels that it names, and where in the code the next one begins.
+// Step is one instruction of a function: its kind, the signature, function, local or labels that it names, the number that it gives, and where in the code the next one begins.
 type Step struct {
 	Kind
 	Indexes []int
+	Number  int64
 	Next    int
 }
 
@@ -133,8 +134,8 @@ func Read(f shape.Function, at int) Step {
 	if !known {
 		panic(r.fault)
 	}
-	indexes := r.behind(kind.Behind)
-	return Step{kind, indexes, r.at}
+	indexes, number := r.behind(kind.Behind)
+	return Step{kind, indexes, number, r.at}
 }
 
 // reader goes through the bytes of one instruction; whatever is wrong with them, it is the instruction's fault.
@@ -155,19 +156,19 @@ func (r *reader) take(count int) []byte {
 
 func (r *reader) next() byte { return r.take(1)[0] }
 
-// behind reads what stands behind the instruction's byte, and tells the indexes among it.
-func (r *reader) behind(what int) []int {
+// behind reads what stands behind the instruction's byte: indexes, or a number.
+func (r *reader) behind(what int) ([]int, int64) {
 	switch what {
 	case Signature, Function, Local, Label:
-		return r.indexes(1)
+		return r.indexes(1), 0
 	case Labels:
-		return r.indexes(r.ahead() + 1)
+		return r.indexes(r.ahead() + 1), 0
 	case Four:
-		r.take(4)
+		return nil, int64(int32(r.number(4)))
 	case Eight:
-		r.take(8)
+		return nil, int64(r.number(8))
 	}
-	return nil
+	return nil, 0
 }
 
 // ahead is how many labels stand ahead of the last one.
@@ -185,4 +186,13 @@ func (r *reader) indexes(count int) []int {
 		list[i] = int(b)
 	}
 	return list
+}
+
+// number is the number of the next bytes, without a sign.
+func (r *reader) number(bytes int) uint64 {
+	var n uint64
+	for _, b := range r.take(bytes) {
+		n = n<<8 | uint64(b)
+	}
+	return n
 }

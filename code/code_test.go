@@ -63,6 +63,26 @@ func TestWhatStandsBehind(t *testing.T) {
 	}
 }
 
+func TestNumbers(t *testing.T) {
+	for _, c := range []struct {
+		bytes []byte
+		want  int64
+	}{
+		{[]byte{20, 1, 2, 3, 4, 5}, 0x01020304},
+		{[]byte{20, 255, 255, 255, 254}, -2},
+		{[]byte{20, 128, 0, 0, 0}, -1 << 31},
+		{[]byte{21, 1, 2, 3, 4, 5, 6, 7, 8, 9}, 0x0102030405060708},
+		{[]byte{21, 255, 255, 255, 255, 255, 255, 255, 254}, -2},
+		{[]byte{21, 128, 0, 0, 0, 0, 0, 0, 0}, -1 << 63},
+		{[]byte{11, 5}, 0},
+		{[]byte{6}, 0},
+	} {
+		if step, fault := read(c.bytes...); fault != nil || step.Number != c.want {
+			t.Errorf("%v: %d, %v, want %d", c.bytes, step.Number, fault, c.want)
+		}
+	}
+}
+
 func TestGivingUp(t *testing.T) {
 	for _, bytes := range [][]byte{{17}, {255, 0}, {2}, {9}, {9, 0}, {9, 1, 0}, {9, 11, 0, 0, 0, 0, 0, 0, 0, 0, 0, 0, 0, 0}, {20, 0, 0, 0}, {21, 0, 0, 0, 0, 0, 0, 0}} {
 		if _, fault := read(bytes...); fault != (shape.Fault{Errno: api.ErrCode, Place: 102}) {

@@ -1,4 +1,4 @@
-// Package look looks through the code of a module whose form is right: whether it may be.
+// Package look looks through the code of a module whose form is right: whether it may be, and where its instructions lead.
 package look
 
 import (
@@ -9,17 +9,41 @@ import (
 	"treadle/shape"
 )
 
+// Function is one whose code may be, as a run needs it: Locals is how many it has in all.
+type Function struct {
+	shape.Signature
+	Locals int
+	Steps  []Step
+}
+
+// Step is an instruction. Index is the function or local that it names; Targets is where else it leads than to the next one: one for each label, of an if the one for a 0, of an else the one behind its end.
+type Step struct {
+	code.Kind
+	Index   int
+	Number  int64
+	Targets []*Target
+}
+
+// Target is where a run goes on: with which instruction, how many numbers it keeps, and how high the stack is below these.
+type Target struct {
+	Next   int
+	Keep   int
+	Height int
+}
+
 // anything stands for a type that is as every one: what is taken where a dead frame has nothing.
 const anything = 0
 
 // Through looks through all code of a module, function by function, or panics with the Fault of the first instruction at which something is wrong.
-func Through(m *shape.Module) {
-	for _, f := range m.Functions {
-		through(m, f)
+func Through(m *shape.Module) []Function {
+	functions := make([]Function, len(m.Functions))
+	for i, f := range m.Functions {
+		functions[i] = through(m, f)
 	}
+	return functions
 }
 
-func through(m *shape.Module, f shape.Function) {
+func through(m *shape.Module, f shape.Function) Function {
 	signature := m.Signatures[f.Signature]
 	l := &looker{module: m, locals: slices.Concat(signature.Takes, f.Locals)}
 	l.open(code.Block, signature)
@@ -30,6 +54,7 @@ func through(m *shape.Module, f shape.Function) {
 		}
 		step := code.Read(f, at)
 		l.find(step)
+		l.keep(step)
 		l.do(step)
 		at = step.Next
 	}
@@ -37,14 +62,17 @@ func through(m *shape.Module, f shape.Function) {
 	if len(l.frames) > 0 {
 		l.giveUp(api.ErrNest)
 	}
+	return Function{signature, len(l.locals), l.steps}
 }
 
-// frame is the function's, or that of a block, loop or if that is open: name tells which. The function's is as a block's, and an if that has had its else is an else.
+// frame is the function's, or that of a block, loop or if that is open: name tells which. The function's is as a block's, and an if that has had its else is an else. began is the step that opened it, and target is where a label that speaks of it leads.
 type frame struct {
 	name      int
 	signature shape.Signature
 	height    int
 	dead      bool
+	began     int
+	target    *Target
 }
 
 // wants is what a label that speaks of the frame wants.
@@ -55,12 +83,13 @@ func (f frame) wants() []int {
 	return f.signature.Gives
 }
 
-// looker is how far the look through a function has come; place is that of the instruction that is looked at.
+// looker is how far the look through a function has come; place is that of the instruction that is looked at, which is the last of steps.
 type looker struct {
 	module *shape.Module
 	locals []int
 	stack  []int
 	frames []frame
+	steps  []Step
 	place  int
 }
 
@@ -90,6 +119,28 @@ func (l *looker) count(what int) int {
 	}
 	return len(l.frames)
 }
+
+// keep puts the instruction among the steps. Its labels are known, though not yet all the places to which they lead.
+func (l *looker) keep(step code.Step) {
+	kept := Step{Kind: step.Kind, Number: step.Number}
+	switch step.Behind {
+	case code.Function, code.Local:
+		kept.Index = step.Indexes[0]
+	case code.Label, code.Labels:
+		for _, label := range step.Indexes {
+			kept.Targets = append(kept.Targets, l.label(label).target)
+		}
+	}
+	l.steps = append(l.steps, kept)
+}
+
+// lead lets an earlier step lead there.
+func (l *looker) lead(step int, target *Target) {
+	l.steps[step].Targets = []*Target{target}
+}
+
+// next is the step behind the one that is looked at.
+func (l *looker) next() int { return len(l.steps) }
 
 func (l *looker) do(step code.Step) {
 	switch step.Name {
@@ -131,39 +182,50 @@ func (l *looker) begin(step code.Step) {
 	}
 }
 
+// open opens a frame. Until its end is known its label leads to its beginning, which of a loop is right.
 func (l *looker) open(name int, signature shape.Signature) {
-	l.frames = append(l.frames, frame{name: name, signature: signature, height: len(l.stack)})
+	f := frame{name: name, signature: signature, height: len(l.stack), began: l.next() - 1}
+	f.target = &Target{l.next(), len(f.wants()), f.height}
+	l.frames = append(l.frames, f)
 }
 
-// turn goes over to the other half of an if.
+// turn goes over to the other half of an if. The first half goes on as if it had gone to the label.
 func (l *looker) turn() {
 	if l.innermost().name != code.If {
 		l.giveUp(api.ErrNest)
 	}
-	signature := l.close()
-	l.open(code.Else, signature)
-	l.giveAll(signature.Takes)
+	inner := l.close()
+	l.lead(l.next()-1, inner.target)
+	inner.name, inner.dead = code.Else, false
+	l.frames = append(l.frames, inner)
+	l.giveAll(inner.signature.Takes)
 }
 
 // end ends the innermost frame. An if without an else lets what it takes through as what it gives, where its small is 0.
 func (l *looker) end() {
-	name := l.innermost().name
-	signature := l.close()
-	if name == code.If && !slices.Equal(signature.Takes, signature.Gives) {
+	inner := l.close()
+	takes, gives := inner.signature.Takes, inner.signature.Gives
+	if inner.name == code.If && !slices.Equal(takes, gives) {
 		l.giveUp(api.ErrType)
 	}
-	l.giveAll(signature.Gives)
+	if inner.name != code.Loop {
+		inner.target.Next = l.next()
+	}
+	l.giveAll(gives)
 }
 
-// close takes what the innermost frame gives, and the frame away, which must have nothing else left.
-func (l *looker) close() shape.Signature {
+// close takes what the innermost frame gives, and the frame away, which must have nothing else left. With a 0 an if leads to what stands behind its first half.
+func (l *looker) close() frame {
 	inner := l.innermost()
 	l.takeAll(inner.signature.Gives)
 	if len(l.stack) != inner.height {
 		l.giveUp(api.ErrType)
 	}
+	if inner.name == code.If {
+		l.lead(inner.began, &Target{l.next(), len(inner.signature.Takes), inner.height})
+	}
 	l.frames = l.frames[:len(l.frames)-1]
-	return inner.signature
+	return inner
 }
 
 // jump does what leads elsewhere: to return is to go to the function's label, and a stop is a go that takes nothing along.

@@ -4,12 +4,14 @@ package treadle
 import (
 	"treadle/api"
 	"treadle/look"
+	"treadle/number"
+	"treadle/run"
 	"treadle/shape"
 )
 
 // Module is functions that may be run.
 type Module struct {
-	form *shape.Module // nil in a Module that Load did not make
+	functions []look.Function // none in a Module that Load did not make
 }
 
 // Load loads a module (P3, P4).
@@ -23,9 +25,7 @@ func load(module []byte) (loaded *Module, errno api.Errno, place int) {
 			errno, place = refusal(reason)
 		}
 	}()
-	form := shape.Read(module)
-	look.Through(form)
-	return &Module{form}, api.OK, 0
+	return &Module{look.Through(shape.Read(module))}, api.OK, 0
 }
 
 // refusal tells why a reader gave up. What is no Fault is refused too: whatever happened, no call may panic, and no module be taken for a good one.
@@ -36,18 +36,17 @@ func refusal(reason any) (api.Errno, int) {
 	return api.ErrForm, 0
 }
 
-// isNone tells whether it is a Module that Load did not make.
-func (m *Module) isNone() bool { return m == nil || m.form == nil }
+// isNone tells whether it is a Module that Load did not make: one that it made has a function.
+func (m *Module) isNone() bool { return m == nil || len(m.functions) == 0 }
 
 // Functions tells what functions take and give (P5).
 func (m *Module) Functions() []api.Function {
 	if m.isNone() {
 		return nil
 	}
-	told := make([]api.Function, len(m.form.Functions))
-	for i, f := range m.form.Functions {
-		s := m.form.Signatures[f.Signature]
-		told[i] = api.Function{Takes: copyOf(s.Takes), Gives: copyOf(s.Gives)}
+	told := make([]api.Function, len(m.functions))
+	for i, f := range m.functions {
+		told[i] = api.Function{Takes: copyOf(f.Takes), Gives: copyOf(f.Gives)}
 	}
 	return told
 }
@@ -64,5 +63,29 @@ func (m *Module) Run(f int, args []int64, fuel int) (api.Outcome, api.Errno) {
 	if m.isNone() {
 		return api.Outcome{}, api.ErrClosed
 	}
-	return api.Outcome{}, api.OK
+	if !m.mayRun(f, args, fuel) {
+		return api.Outcome{}, api.ErrArg
+	}
+	return run.Run(m.functions, f, args, fuel), api.OK
+}
+
+// mayRun tells whether that may be asked for.
+func (m *Module) mayRun(f int, args []int64, fuel int) bool {
+	if f < 0 || f >= len(m.functions) || fuel < 0 || fuel > api.MaxFuel {
+		return false
+	}
+	return areOf(m.functions[f].Takes, args)
+}
+
+// areOf tells whether the args are of these types, one of each.
+func areOf(types []int, args []int64) bool {
+	if len(args) != len(types) {
+		return false
+	}
+	for i, t := range types {
+		if t == shape.Small && !number.IsSmall(args[i]) {
+			return false
+		}
+	}
+	return true
 }

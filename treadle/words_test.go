@@ -1,6 +1,7 @@
 package treadle_test
 
 import (
+	"encoding/binary"
 	"strconv"
 	"strings"
 	"testing"
@@ -21,7 +22,7 @@ var words = map[string]byte{
 	"narrow": 70, "widen": 71,
 }
 
-// assemble makes code of a text: words; numbers, which are bytes; small and wide, which give one; and "!", which is no byte but marks a place, told as -1 where there is none.
+// assemble makes code of a text: words; numbers, which are bytes; small and wide, which give one; small=5 and wide=5, which give that number; and "!", which is no byte but marks a place, told as -1 where there is none.
 func assemble(t *testing.T, text string) (code []byte, mark int) {
 	t.Helper()
 	mark = -1
@@ -38,14 +39,33 @@ func assemble(t *testing.T, text string) (code []byte, mark int) {
 		case "wide":
 			code = append(code, 21, 0, 0, 0, 0, 0, 0, 0, 1)
 		default:
-			n, err := strconv.ParseUint(word, 10, 8)
-			if err != nil {
-				t.Fatalf("no word: %q", word)
-			}
-			code = append(code, byte(n))
+			code = append(code, bytesOf(t, word)...)
 		}
 	}
 	return code, mark
+}
+
+// bytesOf is the bytes of a word with a number.
+func bytesOf(t *testing.T, word string) []byte {
+	t.Helper()
+	name, number, named := strings.Cut(word, "=")
+	bits := map[string]int{"small": 32, "wide": 64}[name]
+	if n, err := strconv.ParseInt(number, 10, bits); named && bits > 0 && err == nil {
+		return constant(n, bits)
+	}
+	n, err := strconv.ParseUint(word, 10, 8)
+	if err != nil {
+		t.Fatalf("no word: %q", word)
+	}
+	return []byte{byte(n)}
+}
+
+// constant is the instruction that gives that number.
+func constant(n int64, bits int) []byte {
+	if bits == 32 {
+		return binary.BigEndian.AppendUint32([]byte{words["SMALL"]}, uint32(n))
+	}
+	return binary.BigEndian.AppendUint64([]byte{words["WIDE"]}, uint64(n))
 }
 
 // The signatures of the modules of code, by what they take and give (s a small, w a wide).
@@ -61,10 +81,15 @@ const (
 	sCount
 )
 
+// sAll are these signatures.
+func sAll() []signature {
+	return []signature{{nil, nil}, {nil, []int{1}}, {nil, []int{2}}, {[]int{1}, []int{1}}, {[]int{1}, nil}, {[]int{1, 2}, []int{2}}, {[]int{2, 1}, []int{1, 2, 1}}, {nil, []int{1, 2}}}
+}
+
 // oneFunction is a module whose function 0, of that signature, has the code; behind what it takes its locals are a small and a wide. Function 1 takes a small and a wide and gives a wide, function 2 takes a wide and a small and gives a small, a wide and a small.
 func oneFunction(signatureOf int, code []byte) built {
 	return build(
-		[]signature{{nil, nil}, {nil, []int{1}}, {nil, []int{2}}, {[]int{1}, []int{1}}, {[]int{1}, nil}, {[]int{1, 2}, []int{2}}, {[]int{2, 1}, []int{1, 2, 1}}, {nil, []int{1, 2}}},
+		sAll(),
 		[]function{{signatureOf, []int{1, 2}, code}, {sSWToW, nil, stopped(2)}, {sWSToSWS, nil, stopped(3)}},
 	)
 }
