@@ -147,6 +147,17 @@ func TestGoIf(t *testing.T) {
 	does(t, "Done 12 [9]", 0, "block 0 loop 0 small=1 small=2 get 0 goif 2 drop drop end end small=9 end")
 }
 
+func TestGoIfToLoopAndIf(t *testing.T) {
+	does(t, "Done 20 [0]", 2, "get 0 loop 2 small=1 sub tee 1 small=5 get 1 get 1 goif 0 drop drop end end")
+	toIf := "small=100 small=50 get 0 if 2 small=2 get 0 small=1 sub goif 0 drop end add end"
+	does(t, "Done 13 [150]", 1, toIf)
+	does(t, "Done 11 [102]", 2, toIf)
+	does(t, "Done 6 [150]", 0, toIf)
+	inElse := "get 0 if 1 small=1 else small=2 small=3 small=1 goif 0 sub end end"
+	does(t, "Done 5 [1]", 1, inElse)
+	does(t, "Done 7 [3]", 0, inElse)
+}
+
 // To go to the function's label is to return: its end is not come to.
 func TestGoToFunction(t *testing.T) {
 	does(t, "Done 2 [1]", 0, "small=1 go 0 end")
